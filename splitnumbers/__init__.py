@@ -1,0 +1,1 @@
+"""How evenly every part of a table splits, by signs, roundings and mixes."""

@@ -1,0 +1,155 @@
+"""The rules of the language that can be seen in the text of the package."""
+
+import ast
+import builtins
+import pathlib
+import unittest
+
+PACKAGE = pathlib.Path(__file__).resolve().parent.parent / "splitnumbers"
+LIBRARY = {"math": {"gcd", "lcm", "isqrt", "comb", "perm", "factorial"}}
+BUILTINS = set(
+    "len range enumerate zip min max sum abs sorted reversed int str bool bytes list tuple dict set isinstance ord "
+    "repr any all divmod iter next Exception ValueError TypeError KeyError IndexError LookupError "
+    "ZeroDivisionError NotImplemented property staticmethod classmethod".split()
+)
+METHODS = set(
+    "append clear copy count endswith extend find get index insert isalnum isalpha isdigit islower isspace isupper "
+    "items join keys ljust lower lstrip partition pop remove replace reverse rfind rjust rpartition rsplit rstrip "
+    "setdefault split splitlines startswith strip update upper values zfill bit_length".split()
+)
+DOUBLE = set(
+    "__init__ __eq__ __len__ __iter__ __call__ __add__ __sub__ __mul__ __rmul__ __neg__ __getitem__ __contains__ "
+    "__or__ __and__ __invert__".split()
+)
+BARRED = (ast.GeneratorExp, ast.SetComp, ast.Set, ast.Div, ast.Global, ast.AsyncFunctionDef, ast.Await, ast.JoinedStr)
+
+
+def files():
+    return sorted(PACKAGE.rglob("*.py"))
+
+
+def trees():
+    return [(path, ast.parse(path.read_text())) for path in files()]
+
+
+def functions(tree):
+    return [node for node in ast.walk(tree) if isinstance(node, ast.FunctionDef)]
+
+
+def bound_names(function):
+    found = [argument.arg for argument in function.args.args + function.args.kwonlyargs]
+    for node in ast.walk(function):
+        if isinstance(node, ast.Name) and isinstance(node.ctx, ast.Store):
+            found.append(node.id)
+    return found
+
+
+def module_names(tree):
+    found = []
+    for node in tree.body:
+        if isinstance(node, ast.ImportFrom):
+            found += [alias.name for alias in node.names]
+        elif isinstance(node, (ast.FunctionDef, ast.ClassDef)):
+            found.append(node.name)
+        elif isinstance(node, ast.Assign):
+            found += [target.id for target in node.targets]
+    return found
+
+
+class LanguageTest(unittest.TestCase):
+    def test_only_files_of_code(self):
+        kept = [path for path in PACKAGE.rglob("*") if "__pycache__" not in path.parts]
+        self.assertEqual([path for path in kept if path.suffix != ".py"], [])
+
+    def test_init_is_a_docstring(self):
+        tree = ast.parse((PACKAGE / "__init__.py").read_text())
+        self.assertEqual(len(tree.body), 1)
+        self.assertIsNotNone(ast.get_docstring(tree))
+
+    def test_sizes_and_characters(self):
+        for path in files():
+            text = path.read_text()
+            lines = text.splitlines()
+            self.assertLessEqual(len(lines), 399, path)
+            self.assertLessEqual(max(len(line) for line in lines), 120, path)
+            self.assertTrue(all(c == "\n" or " " <= c <= "~" for c in text), path)
+        for path, tree in trees():
+            for function in functions(tree):
+                self.assertLessEqual(function.end_lineno - function.lineno + 1, 40, (path, function.name))
+
+    def test_barred_constructs(self):
+        for path, tree in trees():
+            for node in ast.walk(tree):
+                if not isinstance(node, ast.JoinedStr):
+                    self.assertNotIsInstance(node, BARRED, (path, getattr(node, "lineno", 0)))
+                if isinstance(node, ast.Constant):
+                    self.assertNotIsInstance(node.value, (float, complex), path)
+                if isinstance(node, ast.Compare):
+                    for sign, side in zip(node.ops, node.comparators):
+                        if isinstance(sign, (ast.Is, ast.IsNot)):
+                            self.assertTrue(isinstance(side, ast.Constant), (path, node.lineno))
+                if isinstance(node, ast.AugAssign):
+                    self.assertNotIsInstance(node.op, ast.Mult, (path, node.lineno))
+                if isinstance(node, ast.BinOp) and isinstance(node.op, ast.Pow):
+                    self.assertTrue(isinstance(node.right, ast.Constant), (path, node.lineno))
+
+    def test_imports(self):
+        for path, tree in trees():
+            for node in ast.walk(tree):
+                self.assertNotIsInstance(node, ast.Import, path)
+                if isinstance(node, ast.ImportFrom) and node.module in LIBRARY:
+                    self.assertTrue({alias.name for alias in node.names} <= LIBRARY[node.module], path)
+                elif isinstance(node, ast.ImportFrom):
+                    source = PACKAGE / (node.module.removeprefix("splitnumbers.") + ".py")
+                    here = ast.parse(source.read_text()).body
+                    own = [part.name for part in here if isinstance(part, (ast.FunctionDef, ast.ClassDef))]
+                    own += [target.id for part in here if isinstance(part, ast.Assign) for target in part.targets]
+                    for alias in node.names:
+                        self.assertIn(alias.name, own, path)
+                        self.assertIsNone(alias.asname, path)
+
+    def test_no_circle_of_imports(self):
+        wanted = {path.stem: [node.module.split(".")[-1] for node in tree.body if isinstance(node, ast.ImportFrom)
+                              and node.module.startswith("splitnumbers.")] for path, tree in trees()}
+        left = dict(wanted)
+        while left:
+            free = [name for name in left if not any(other in left for other in left[name])]
+            self.assertTrue(free, left)
+            for name in free:
+                del left[name]
+
+    def test_names(self):
+        for path, tree in trees():
+            names = module_names(tree)
+            self.assertEqual(len(names), len(set(names)), path)
+            taken = {alias.name for node in tree.body if isinstance(node, ast.ImportFrom) for alias in node.names}
+            taken |= {node.name for node in tree.body if isinstance(node, ast.ClassDef)}
+            self.assertFalse([name for name in names if hasattr(builtins, name)], path)
+            for function in functions(tree):
+                for name in bound_names(function):
+                    self.assertFalse(hasattr(builtins, name), (path, name))
+                    self.assertNotIn(name, taken, (path, function.name))
+                if function.name.startswith("__"):
+                    self.assertIn(function.name, DOUBLE, path)
+
+    def test_builtins_and_methods(self):
+        own = {function.name for _, tree in trees() for function in functions(tree)}
+        for path, tree in trees():
+            for node in ast.walk(tree):
+                if isinstance(node, ast.Name) and isinstance(node.ctx, ast.Load) and hasattr(builtins, node.id):
+                    self.assertIn(node.id, BUILTINS, (path, node.lineno))
+                if isinstance(node, ast.Call) and isinstance(node.func, ast.Attribute):
+                    self.assertIn(node.func.attr, METHODS | own, (path, node.lineno))
+
+    def test_strings(self):
+        for path, tree in trees():
+            for node in ast.walk(tree):
+                if isinstance(node, ast.Constant) and isinstance(node.value, str) and "%" in node.value:
+                    self.fail((path, node.lineno))
+
+    def test_every_test_folder_stands_beside(self):
+        self.assertEqual([path for path in files() if path.name.startswith("test")], [])
+
+
+if __name__ == "__main__":
+    unittest.main()
