@@ -1,6 +1,6 @@
 """The search for splits. Tolls and parts are taken as they are, without a check."""
 
-from splitnumbers.signs import contrary, placed_marks
+from splitnumbers.signs import contrary, put_at
 
 # Parts are gone through for tables of at most this many columns.
 MOST_GONE_THROUGH = 7
@@ -47,7 +47,7 @@ def half_splits(table, tolls, part):
         states.append(((-1,), contrary(columns[0])))
     for column, room in zip(columns[1:], rooms[1:]):
         states = grown_states(states, column, room)
-    return [placed_marks(part, state[0], table.columns) for state in states]
+    return [put_at(part, state[0], (0,) * table.columns) for state in states]
 
 
 def all_splits(table, tolls, part):
@@ -56,6 +56,14 @@ def all_splits(table, tolls, part):
         return [(0,) * table.columns]
     half = half_splits(table, tolls, part)
     return half + [contrary(signs) for signs in half[::-1]]
+
+
+def first_of_part(table, tolls, part):
+    """The first split of any part, None if it has none."""
+    if len(part) == 0:
+        return (0,) * table.columns
+    half = half_splits(table, tolls, part)
+    return half[0] if half else None
 
 
 def lone_of_part(table, tolls, part):

@@ -5,35 +5,38 @@ from splitnumbers.kinds import wrong_integer
 from splitnumbers.numbers import of_length
 
 
-def marks_of(count):
-    """All tuples of count numbers 1 and -1, ascending."""
-    marks = [()]
+MARKS = (-1, 1)
+
+
+def choices_of(numbers, count):
+    """All tuples of count numbers, each one of the given ascending ones; ascending."""
+    choices = [()]
     for _ in range(count):
-        marks = [row + (mark,) for row in marks for mark in (-1, 1)]
-    return marks
+        choices = [choice + (number,) for choice in choices for number in numbers]
+    return choices
 
 
-def placed_marks(places, marks, count):
-    """The row of count numbers with the marks at the places, 0 elsewhere."""
-    numbers = [0] * count
-    for place, mark in zip(places, marks):
-        numbers[place] = mark
-    return tuple(numbers)
+def put_at(places, numbers, row):
+    """The row with the numbers at the places."""
+    changed = list(row)
+    for place, number in zip(places, numbers):
+        changed[place] = number
+    return tuple(changed)
 
 
 def signs_of(part, count):
     """All signs of the part among count columns, ascending."""
     places = sorted(part)
-    for marks in marks_of(len(places)):
-        yield placed_marks(places, marks, count)
+    for marks in choices_of(MARKS, len(places)):
+        yield put_at(places, marks, (0,) * count)
 
 
 def leading_signs(part, count):
     """All leading signs of the part among count columns, ascending."""
     places = sorted(part)
-    for marks in marks_of(len(places)):
+    for marks in choices_of(MARKS, len(places)):
         if marks[:1] == (1,):
-            yield placed_marks(places, marks, count)
+            yield put_at(places, marks, (0,) * count)
 
 
 def signs_from(value, count):

@@ -1,6 +1,6 @@
 """Odd and even rows, splits of a part, lowered tolls."""
 
-from splitnumbers.searching import all_splits, is_within
+from splitnumbers.searching import all_splits, first_of_part, is_within
 from splitnumbers.sets import set_of
 from splitnumbers.signs import signs_from
 from splitnumbers.tolls import tolls_of
@@ -38,8 +38,8 @@ def splits_of(table, tolls, part):
 
 def first_split(table, tolls, part):
     """The first split of the part within the tolls, None if it has none."""
-    splits = splits_of(table, tolls, part)
-    return splits[0] if splits else None
+    due = tolls_of(tolls, table.height)
+    return first_of_part(table, due, set_of(part, table.columns))
 
 
 def lowered_tolls(table, tolls, part):

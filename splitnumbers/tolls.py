@@ -1,6 +1,6 @@
 """Tolls: which ones serve a table, and which parts fail."""
 
-from splitnumbers.errors import BadTolls, NotServing
+from splitnumbers.errors import BadTolls, NotMet, NotServing
 from splitnumbers.kinds import refuse_many, wrong_integer
 from splitnumbers.numbers import of_length
 from splitnumbers.searching import MOST_GONE_THROUGH, half_splits
@@ -57,3 +57,9 @@ def refuse_failing(table, tolls):
     part = failing_part(table, tolls)
     if part is not None:
         raise NotServing(part)
+
+
+def refuse_zero(tolls):
+    """Nothing, or NotMet for a toll of 0."""
+    if 0 in tolls:
+        raise NotMet("tolls")

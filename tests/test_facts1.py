@@ -3,13 +3,12 @@
 import itertools
 import unittest
 
-from makers import (all_tables, all_tolls, error_of, first_of, plain_failing, plain_parts, plain_sums, serving_tolls,
-                    some_numbers, some_tables)
-from splitnumbers import numbers, sets, signs, splitting, tables, tabletexts, tolls
+from makers import (all_tables, all_tolls, first_of, plain_failing, plain_parts, plain_sums, serving_tolls, some_numbers,
+                    some_tables)
 from splitnumbers.numbers import Numbers
 from splitnumbers.sets import parts_of
 from splitnumbers.signs import signs_of
-from splitnumbers.splitting import lowered_tolls, splits_of
+from splitnumbers.splitting import is_split, lowered_tolls, splits_of
 from splitnumbers.tables import Table
 from splitnumbers.tabletexts import table_from, table_text
 from splitnumbers.tolls import failing_part, least_failing, serves
@@ -128,7 +127,7 @@ class ValuesTest(unittest.TestCase):
         splits_of(table, q, part)
         lowered_tolls(table, q, part)
         failing_part(table, q)
-        splitting.is_split(table, q, x)
+        is_split(table, q, x)
         table(x)
         self.assertEqual((q, part, x), ([3, 3], [1, 0], [1, -1]))
 
@@ -147,21 +146,6 @@ class ValuesTest(unittest.TestCase):
         next(generator)
         part.clear()
         self.assertEqual(list(generator), [(-1, 1), (1, -1), (1, 1)])
-
-    def test_each_thing_is_defined_in_its_file(self):
-        listed = {
-            numbers: "Numbers numbers_of shares_of", sets: "set_of parts_of least_sets", tables: "Table",
-            tabletexts: "table_text table_from",
-            signs: "signs_of leading_signs signs_from part_of contrary made_leading is_leading beside joined_signs",
-            splitting: "odd_rows even_rows is_split splits_of first_split lowered_tolls",
-            tolls: "tolls_of failing_part serves least_failing loose_rows",
-        }
-        for module, names in listed.items():
-            for name in names.split():
-                self.assertEqual(getattr(module, name).__module__, module.__name__)
-
-    def test_errors_have_no_other_kind(self):
-        self.assertEqual(error_of(failing_part, Table.zeros(1, 8), (1, 1)), ("OtherSize", 1))
 
 
 if __name__ == "__main__":

@@ -15,7 +15,7 @@ BUILTINS = set(
 METHODS = set(
     "append clear copy count endswith extend find get index insert isalnum isalpha isdigit islower isspace isupper "
     "items join keys ljust lower lstrip partition pop remove replace reverse rfind rjust rpartition rsplit rstrip "
-    "setdefault split splitlines startswith strip update upper values zfill bit_length".split()
+    "setdefault split splitlines startswith strip update upper values zfill bit_length add discard".split()
 )
 DOUBLE = set(
     "__init__ __eq__ __len__ __iter__ __call__ __add__ __sub__ __mul__ __rmul__ __neg__ __getitem__ __contains__ "

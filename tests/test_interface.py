@@ -1,0 +1,80 @@
+"""The names of the interface: each is defined in its file, with its arguments in their order."""
+
+import importlib
+import inspect
+import unittest
+
+LISTED = {
+    "ratios": "ratio_of(value) ratio_sum(one,other) ratio_less(one,other) ratio_times(one,other) ratio_over(one,other) "
+              "ratio_at_most(one,other) ratio_size(value) greatest_ratio(ratios) least_ratio(ratios)",
+    "numbers": "Numbers(tops,bottom=1) numbers_of(value,length) shares_of(value,length)",
+    "sets": "set_of(places,count) parts_of(count) least_sets(sets)",
+    "tables": "Table(rows,*,columns=None)",
+    "tabletexts": "table_text(table) table_from(text)",
+    "signs": "signs_of(part,count) leading_signs(part,count) signs_from(value,count) part_of(signs) contrary(signs) "
+             "made_leading(signs) is_leading(signs) beside(one,other) joined_signs(one,other)",
+    "splitting": "odd_rows(table,part) even_rows(table,part) is_split(table,tolls,signs) splits_of(table,tolls,part) "
+                 "first_split(table,tolls,part) lowered_tolls(table,tolls,part)",
+    "tolls": "tolls_of(value,height) failing_part(table,tolls) serves(table,tolls) least_failing(table,tolls) "
+             "loose_rows(tolls)",
+    "leasts": "part_choices(table,part) least_tolls(table) least_equal(table)",
+    "lones": "is_lone(table,tolls,signs) lone_splits(table,tolls) toll_of_row(table,tolls,row) "
+             "part_of_toll(table,tolls,row) lone_worth(table,tolls,row)",
+    "roundings": "doubled(shares) broken_places(shares) roundings_of(shares) rounding_from(value,shares) "
+                 "miss(table,shares,rounding) odd_part(carry,rounding) halved(carry,rounding,signs) "
+                 "is_firm_rounding(table,tolls,shares,rounding) firm_roundings(table,tolls,shares)",
+    "solving": "solve(columns,room,gains)",
+    "mixes": "Mix(entries) RoundingMix(entries) SignMix(entries)",
+    "nearest": "cut_of(count) near_bound(tolls) near_quotient(table,tolls,shares,rounding) "
+               "near_rounding(table,tolls,shares) near_on(table,tolls,shares,rows) whole_rows(table,shares)",
+    "halving": "depth_of(shares) halves_mix(table,tolls,shares)",
+    "meaning": "means_mix(table,tolls,shares) cheap_within(table,tolls,prices,shares)",
+    "ranks": "rank_of(rows) kernel_row(table,part) is_independent(table,part)",
+}
+METHODS = {
+    "numbers.Numbers": "of_ratios(ratios) common_bottom(ratios) dot(self,other) scaled(self,value) greatest_size(self) "
+                       "placed(self,place,value)",
+    "tables.Table": "zeros(height,columns) unit(count) chain(count) sums_of(self,numbers) column(self,j) "
+                    "lot(self,rows,columns) with_row(self,row,place=None) with_column(self,column,place=None) "
+                    "without_row(self,i) without_column(self,j) turned_row(self,i) turned_column(self,j) "
+                    "times_row(self,i,t) copied(self,j) exchanged(self,rows,columns)",
+    "mixes.Mix": "means(self) mean_at(self,row) mean_square(self,row,middle=(0,1)) even(tuples)",
+    "mixes.RoundingMix": "greatest_miss(self,table,shares)",
+    "mixes.SignMix": "signed_part(self)",
+}
+GENERATORS = {"sets": ["parts_of"], "signs": ["signs_of", "leading_signs"], "roundings": ["roundings_of"]}
+
+
+def told(name, thing):
+    return name + str(inspect.signature(thing)).replace(" ", "")
+
+
+class InterfaceTest(unittest.TestCase):
+    def test_each_thing_is_defined_in_its_file(self):
+        for stem, listed in LISTED.items():
+            module = importlib.import_module("splitnumbers." + stem)
+            for words in listed.split():
+                name = words.split("(")[0]
+                thing = getattr(module, name)
+                self.assertEqual(thing.__module__, module.__name__)
+                self.assertEqual(told(name, thing), words)
+
+    def test_each_method_stands_in_its_class(self):
+        for path, listed in METHODS.items():
+            stem, name = path.split(".")
+            kind = getattr(importlib.import_module("splitnumbers." + stem), name)
+            for words in listed.split():
+                method = words.split("(")[0]
+                self.assertIn(method, vars(kind))
+                self.assertEqual(told(method, getattr(kind, method)), words)
+
+    def test_generators(self):
+        for stem in LISTED:
+            module = importlib.import_module("splitnumbers." + stem)
+            found = [name for name, thing in vars(module).items()
+                     if inspect.isgeneratorfunction(thing) and thing.__module__ == module.__name__]
+            self.assertEqual(sorted(found), sorted(GENERATORS.get(stem, [])))
+
+
+if __name__ == "__main__":
+    unittest.main()
