@@ -5,7 +5,7 @@ from splitnumbers.kinds import refuse_many
 from splitnumbers.mixes import RoundingMix
 from splitnumbers.numbers import any_shares, shares_of
 from splitnumbers.roundings import doubled, halved, odd_part
-from splitnumbers.searching import MOST_GONE_THROUGH, first_of_part
+from splitnumbers.searching import first_of_part
 from splitnumbers.signs import contrary
 from splitnumbers.tolls import refuse_failing, tolls_of
 
@@ -38,7 +38,6 @@ def halves_mix(table, tolls, shares):
     if depth is None:
         raise NotFitting("shares")
     refuse_many(depth, MOST_DEPTH)
-    refuse_many(table.columns, MOST_GONE_THROUGH)
     refuse_failing(table, due)
     carries = []
     for _ in range(depth):

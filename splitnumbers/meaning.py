@@ -4,7 +4,6 @@ from splitnumbers.kinds import refuse_many
 from splitnumbers.mixes import RoundingMix
 from splitnumbers.nearest import missing_less
 from splitnumbers.numbers import dot_of, integers_of, shares_of
-from splitnumbers.searching import MOST_GONE_THROUGH
 from splitnumbers.solving import solve
 from splitnumbers.tolls import loose_rows, refuse_failing, refuse_zero, tolls_of
 
@@ -45,7 +44,6 @@ def cheap_within(table, tolls, prices, shares):
     costs = integers_of(prices, table.columns)
     row = shares_of(shares, table.columns)
     refuse_zero(due)
-    refuse_many(table.columns, MOST_GONE_THROUGH)
     refuse_failing(table, due)
     near = [rounding for rounding, _ in missing_less(table, due, row)]
     least = min([dot_of(costs, rounding) for rounding in near])

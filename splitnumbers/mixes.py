@@ -48,7 +48,7 @@ class Mix:
     @classmethod
     def even(cls, tuples):
         """The mix of the tuples with equal weights."""
-        if not is_listing(tuples) or len(tuples) == 0:
+        if not is_listing(tuples):
             raise BadMix(-1)
         entries = [(numbers, (1, len(tuples))) for numbers in tuples]
         return cls(entries)

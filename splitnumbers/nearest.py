@@ -3,11 +3,10 @@
 from math import lcm
 
 from splitnumbers.errors import BadNumber
-from splitnumbers.kinds import is_integer, refuse_many
+from splitnumbers.kinds import is_integer
 from splitnumbers.numbers import dot_of, shares_of
 from splitnumbers.ratios import is_greater, lowest
 from splitnumbers.roundings import keeps_firm, miss_tops, rounding_of_row, roundings_of
-from splitnumbers.searching import MOST_GONE_THROUGH
 from splitnumbers.sets import set_of
 from splitnumbers.tolls import loose_rows, refuse_failing, refuse_zero, tolls_of
 
@@ -69,7 +68,6 @@ def near_rounding(table, tolls, shares):
     """The first firm rounding with the least near quotient."""
     due = tolls_of(tolls, table.height)
     row = shares_of(shares, table.columns)
-    refuse_many(table.columns, MOST_GONE_THROUGH)
     refuse_failing(table, due)
     firm = [(rounding, tops) for rounding, tops in with_misses(table, row) if keeps_firm(tops, due, row.bottom)]
     return first_nearest(firm, row.bottom, due, loose_rows(due))
@@ -81,7 +79,6 @@ def near_on(table, tolls, shares, rows):
     row = shares_of(shares, table.columns)
     chosen = set_of(rows, table.height)
     refuse_zero(due)
-    refuse_many(table.columns, MOST_GONE_THROUGH)
     refuse_failing(table, due)
     return first_nearest(missing_less(table, due, row), row.bottom, due, chosen)
 

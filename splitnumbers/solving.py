@@ -65,6 +65,7 @@ class Tableau:
         while place is not None:
             at = self.leaving(place)
             if at is None:
+                # The gain has no greatest value, and nothing is promised for that.
                 return surplus
             self.pivot(at, place)
             surplus = self.surplus(gains)

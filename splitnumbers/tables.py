@@ -1,7 +1,7 @@
 """Tables of integers, with at most 12 rows and 12 columns."""
 
 from splitnumbers.errors import BadNumber, BadRows, BadSet, OtherSize
-from splitnumbers.kinds import is_from, is_integer, is_listing, spot_of, wrong_integer, wrong_row
+from splitnumbers.kinds import is_from, is_integer, spot_of, wrong_integer, wrong_row
 from splitnumbers.numbers import Numbers, dot_of, integers_of, numbers_of
 from splitnumbers.sets import set_of
 
@@ -121,7 +121,7 @@ class Table:
         return self.rows[at]
 
     def __contains__(self, x):
-        return is_listing(x) and wrong_integer(x) is None and tuple(x) in self.rows
+        return wrong_integer(x) is None and tuple(x) in self.rows
 
     def __iter__(self):
         return iter(self.rows)

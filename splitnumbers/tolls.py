@@ -53,7 +53,7 @@ def least_failing(table, tolls):
 
 
 def refuse_failing(table, tolls):
-    """Nothing, or NotServing with the first failing part."""
+    """Nothing, or TooMany(7) for more than 7 columns, then NotServing with the first failing part."""
     part = failing_part(table, tolls)
     if part is not None:
         raise NotServing(part)

@@ -67,7 +67,7 @@ class RatioTest(unittest.TestCase):
             self.assertEqual(greatest_ratio(three), told(max(fractions)))
             self.assertEqual(least_ratio(list(three)), told(min(fractions)))
         self.assertEqual(greatest_ratio([2, (5, 2), 1]), (5, 2))
-        self.assertEqual(least_ratio(((2, 4),)), (1, 2))
+        self.assertEqual((least_ratio(((2, 4),)), greatest_ratio([(2, 4)])), ((1, 2), (1, 2)))
 
     def test_errors_of_greatest_and_least(self):
         for call in (greatest_ratio, least_ratio):

@@ -84,6 +84,16 @@ class SolveTest(unittest.TestCase):
             room = [(total.numerator, total.denominator) for total in sums]
             self.assertEqual(self.shown(columns, room, some_numbers(many, seed, -5, 5)), "best")
 
+    def test_rooms_that_one_column_fills(self):
+        # Here unit columns stay behind that hold nothing, and must not be filled again.
+        self.shown([(1, -1), (1, 1), (1, -2), (1, 2), (1, -1)], [1, -2], [-2, 3, 0, -1, -3])
+        self.shown([(1, -2, 0), (1, -2, 1), (1, 1, 1), (1, 1, -1), (1, -2, 1), (1, -2, 1)], [1, -1, 1],
+                   [-3, -1, -3, -3, -3, 2])
+        for seed in range(400):
+            lines, many = 2 + seed % 3, 3 + seed % 4
+            columns = [tuple([1] + some_numbers(lines, 31 * seed + k, -2, 2)) for k in range(many)]
+            self.assertEqual(self.shown(columns, columns[seed % many], some_numbers(many, seed, -3, 3)), "best")
+
     def test_lines_that_repeat(self):
         for seed in range(60):
             columns = [tuple(a for a in [1] + some_numbers(2, 11 * seed + k, -2, 2) for _ in range(2)) for k in range(4)]
@@ -98,6 +108,12 @@ class SolveTest(unittest.TestCase):
                 self.shown(columns, room, (-1, -2))
 
     def test_no_circle(self):
+        for columns, gains in (
+            ([(-2, 4, -4, 1), (4, 1, -3, 1), (-1, -4, -1, 1), (-2, -4, 1, 1)], (-2, 2, 2, 4)),
+            ([(1, 0, 0, 1), (1, 4, 2, 1), (3, -1, 4, 1), (1, -1, -4, 1), (2, -1, -2, 1)], (1, -1, 0, 1, 4)),
+        ):
+            # These go round in a circle if equally close lines are chosen without regard to their columns.
+            self.assertEqual(self.shown(columns + list(Table.unit(4).rows), (0, 0, 0, 1), gains + (0,) * 4), "best")
         # Always taking the column with the greatest gain would go round in a circle here.
         columns = [(1, 1, 1), (-11, -3, 0), (-5, -1, 0), (18, 2, 0), (1, 0, 0), (0, 1, 0), (0, 0, 1)]
         gains = (10, -57, -9, -24, 0, 0, 0)

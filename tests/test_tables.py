@@ -194,6 +194,7 @@ class MethodsTest(unittest.TestCase):
         self.assertEqual(T.with_column(Numbers([7, 8]), 3).rows, ((1, 2, 3, 7), (-4, 5, 0, 8)))
         self.assertEqual(T.with_column((7, 8), 2).rows, ((1, 2, 7, 3), (-4, 5, 8, 0)))
         self.assertEqual(Table.zeros(0, 3).with_column([]).columns, 4)
+        self.assertEqual(Table.zeros(1, 11).with_column([5], 0)[0], (5,) + (0,) * 11)
         self.assertEqual(error_of(T.with_column, [1, 2, None], 9), ("BadNumbers", 2))
         self.assertEqual(error_of(T.with_column, [1, 2, 3], 9), ("OtherSize", 2))
         for wrong in (-1, 4, False, "0"):
@@ -244,6 +245,7 @@ class MethodsTest(unittest.TestCase):
     def test_copied(self):
         self.assertEqual(T.copied(1).rows, ((1, 2, 3, 2), (-4, 5, 0, 5)))
         self.assertEqual(Table.zeros(0, 2).copied(0).columns, 3)
+        self.assertEqual(Table([tuple(range(11))]).copied(4)[0], tuple(range(11)) + (4,))
         for wrong in WRONG_INTEGERS + (-1, 12):
             self.assertEqual(error_of(TWELVE.copied, wrong), ("BadSpot", "column"))
         self.assertEqual(error_of(TWELVE.copied, 0), ("BadNumber", "columns"))
