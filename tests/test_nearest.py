@@ -4,7 +4,7 @@ import itertools
 import unittest
 from fractions import Fraction
 
-from makers import WRONG_INTEGERS, WRONG_KINDS, error_of, plain_parts, serving_tolls, some_numbers, some_tables
+from makers import WRONG_INTEGERS, WRONG_KINDS, error_of, plain_parts, serving_tolls, some_tables
 from rounders import (plain_firm, plain_miss, plain_quotient, plain_roundings, plain_within, some_shares, told)
 from splitnumbers.leasts import least_equal
 from splitnumbers.nearest import cut_of, near_bound, near_on, near_quotient, near_rounding, whole_rows
