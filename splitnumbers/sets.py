@@ -31,6 +31,14 @@ def grown_sets(sets, count):
     return grown
 
 
+def sets_of_size(size, count):
+    """All sets with size of the places 0 .. count-1, ascending."""
+    sets = [()]
+    for _ in range(size):
+        sets = grown_sets(sets, count)
+    return sets
+
+
 def parts_of(count):
     """All sets with at least one place, by their size, ascending among equally great ones."""
     sets = [()]

@@ -43,6 +43,56 @@ EXAMPLES = """
 >>> z = near_rounding(t, (2, 1), w)
 >>> (z, near_quotient(t, (2, 1), w, z), halves_mix(t, (2, 1), w).entries)
 ((0, 0), (1, 2), (((0, 0), (1, 2)), ((1, 1), (1, 2))))
+
+>>> from splitnumbers.tables import Table
+>>> from splitnumbers.squareparts import square_parts
+>>> table = Table([(1, 2), (3, 4)])
+>>> list(square_parts(table))
+[((0,), (0,), 1), ((0,), (1,), 2), ((1,), (0,), 3), ((1,), (1,), 4), ((0, 1), (0, 1), -2)]
+
+>>> from splitnumbers.tables import Table
+>>> from splitnumbers.squareparts import greatest_square
+>>> table = Table([(1, 2), (3, 4)])
+>>> [greatest_square(table), greatest_square(table, 0)]
+[((1,), (1,), 4), ((0,), (1,), 2)]
+
+>>> from splitnumbers.determinants import determinant
+>>> from splitnumbers.bounds import least_single, loose_bound, square_bound
+>>> size = determinant([(1, 1, 1), (-1, 2, -1), (-1, -1, 2)])
+>>> [size, least_single((2, 2, 2), (0, 1, 2)), loose_bound((2, 3, 2), (2, 1, 0)), square_bound((2, 2, 2), (0, 1, 2))]
+[9, 18, (27, 2), (9, 1)]
+
+>>> from splitnumbers.tables import Table
+>>> from splitnumbers.rests import split_target, rest_of
+>>> whole, shares = split_target(Table([(2, 0), (0, 3)]), (3, 4))
+>>> [whole, shares.tops, shares.bottom, rest_of(Table([(2,)]), (2,), 0, (5,))]
+[(1, 1), (3, 2), 6, ((2,), (1,))]
+
+>>> from splitnumbers.tables import Table
+>>> from splitnumbers.pivoting import pivoted, pivot_all
+>>> table = Table([(1, 1, 1), (2, 0, -1)])
+>>> last, rows, columns = pivot_all(table, (1, 3))
+>>> [pivoted(table, 0, 0).rows, last.rows, rows, columns, pivoted(table, 1, 2).rows]
+[((-2, -3),), ((-2, -3),), (1,), (1, 2), ((3, 1),)]
+
+>>> from splitnumbers.tables import Table
+>>> from splitnumbers.firmness import firm_lots, least_loose, unfirm_part
+>>> table = Table([(1, 1), (1, -1), (2, 0)])
+>>> [unfirm_part(table), unfirm_part(table.without_row(2)), firm_lots(table), least_loose(table)]
+[(0,), (0, 1), [(0,), (1,)], 2]
+
+>>> from splitnumbers.tables import Table
+>>> from splitnumbers.lonesums import firm_lones, lone_pieces, lone_way, ways_free
+>>> table = Table([(1, 1, 1)])
+>>> [firm_lones(table), lone_way(table, (2, 0)), ways_free(table, (0, 1, 2)), lone_pieces(Table.zeros(0, 2), (1, -1))]
+[[(0, 0, 1), (0, 1, -1), (0, 1, 0), (1, -1, 0), (1, 0, -1), (1, 0, 0)], (1, 0, -1), 3, ((0, -1), (1, 0))]
+
+>>> from splitnumbers.tables import Table
+>>> from splitnumbers.steps import steps_of, walk
+>>> table = Table.zeros(0, 2)
+>>> half = ((1, 2), (1, 2))
+>>> [steps_of(table, half), walk(table, half, (0, 0), [1, 1])]
+[[((0, 0), (0, 1)), ((0, 0), (1, 0)), ((0, 1), (1, 1)), ((1, 0), (1, 1))], [(0, 0), (0, 1), (1, 1)]]
 """
 
 
@@ -58,7 +108,7 @@ class ExamplesTest(unittest.TestCase):
         told = []
         results = doctest.DocTestRunner(verbose=False).run(test, out=told.append)
         self.assertEqual(results.failed, 0, "".join(told))
-        self.assertEqual(results.attempted, 23)
+        self.assertEqual(results.attempted, 57)
 
     def test_readme(self):
         names = {}
@@ -71,7 +121,7 @@ class ExamplesTest(unittest.TestCase):
             expected = answer.strip().split(": ")[0]
             self.assertEqual(repr(eval(code.strip(), names)), expected, line)
             shown += 1
-        self.assertEqual(shown, 6)
+        self.assertEqual(shown, 10)
 
 
 if __name__ == "__main__":

@@ -30,6 +30,18 @@ LISTED = {
     "halving": "depth_of(shares) halves_mix(table,tolls,shares)",
     "meaning": "means_mix(table,tolls,shares) cheap_within(table,tolls,prices,shares)",
     "ranks": "rank_of(rows) kernel_row(table,part) is_independent(table,part)",
+    "spreading": "spread(table,shares)",
+    "determinants": "determinant(rows)",
+    "squareparts": "square_parts(table) greatest_square(table,row=None) squares_with(table,number)",
+    "bounds": "toll_product(tolls,rows) single_bound(tolls,rows,row) least_single(tolls,rows) loose_bound(tolls,rows) "
+              "square_bound(tolls,rows)",
+    "rests": "class_count(table) solved(table,target) split_target(table,target) rest_of(table,tolls,row,target) "
+             "close_rest(table,tolls,target)",
+    "pivoting": "pivoted(table,row,column) pivot_spots(table,tolls) pivot_all(table,tolls)",
+    "firmness": "is_firm(table) unfirm_part(table) firm_lots(table) least_loose(table)",
+    "lonesums": "ways_free(table,part) lone_way(table,part) firm_lones(table) lone_pieces(table,signs)",
+    "steps": "is_step(table,one,other) difference_pieces(table,shares,one,other) steps_of(table,shares) "
+             "walk(table,shares,one,other)",
 }
 METHODS = {
     "numbers.Numbers": "of_ratios(ratios) common_bottom(ratios) dot(self,other) scaled(self,value) greatest_size(self) "
@@ -42,7 +54,8 @@ METHODS = {
     "mixes.RoundingMix": "greatest_miss(self,table,shares)",
     "mixes.SignMix": "signed_part(self)",
 }
-GENERATORS = {"sets": ["parts_of"], "signs": ["signs_of", "leading_signs"], "roundings": ["roundings_of"]}
+GENERATORS = {"sets": ["parts_of"], "signs": ["signs_of", "leading_signs"], "roundings": ["roundings_of"],
+              "squareparts": ["square_parts", "squares_among"]}
 
 
 def told(name, thing):
