@@ -1,6 +1,6 @@
 """What all files ask of the values that are handed in: their kind, their range, their number."""
 
-from splitnumbers.errors import BadSpot, TooMany
+from splitnumbers.errors import BadNumber, BadSpot, TooMany
 
 
 def is_integer(value):
@@ -42,6 +42,13 @@ def spot_of(value, count, word):
     """An integer from 0 to count - 1; BadSpot(word) for anything else."""
     if not is_from(value, 0, count - 1):
         raise BadSpot(word)
+    return value
+
+
+def number_from(value, low, word):
+    """An integer of at least low; BadNumber(word) for anything else."""
+    if not is_integer(value) or value < low:
+        raise BadNumber(word)
     return value
 
 

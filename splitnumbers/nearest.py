@@ -2,8 +2,7 @@
 
 from math import lcm
 
-from splitnumbers.errors import BadNumber
-from splitnumbers.kinds import is_integer
+from splitnumbers.kinds import number_from
 from splitnumbers.numbers import dot_of, shares_of
 from splitnumbers.ratios import is_greater, lowest
 from splitnumbers.roundings import keeps_firm, miss_tops, rounding_of_row, roundings_of
@@ -13,9 +12,7 @@ from splitnumbers.tolls import loose_rows, refuse_failing, refuse_zero, tolls_of
 
 def cut_of(count):
     """The least k with 2^k above the count."""
-    if not is_integer(count) or count < 0:
-        raise BadNumber("count")
-    return count.bit_length()
+    return number_from(count, 0, "count").bit_length()
 
 
 def near_bound(tolls):

@@ -1,7 +1,6 @@
 """Square parts of a table, with their determinants."""
 
-from splitnumbers.errors import BadNumber
-from splitnumbers.kinds import is_integer, refuse_many, spot_of
+from splitnumbers.kinds import number_from, refuse_many, spot_of
 from splitnumbers.sets import grown_sets
 
 MOST_ROWS = 6
@@ -65,12 +64,11 @@ def greatest_square(table, row=None):
 
 def squares_with(table, number):
     """All square parts with that number of rows."""
-    if not is_integer(number) or number < 1:
-        raise BadNumber("number")
+    size = number_from(number, 1, "number")
     found = []
     for square in square_parts(table):
-        if len(square[0]) > number:
+        if len(square[0]) > size:
             return found
-        if len(square[0]) == number:
+        if len(square[0]) == size:
             found.append(square)
     return found

@@ -48,6 +48,11 @@ def difference_pieces(table, shares, one, other):
     return pieces_of(table, difference(start, end))
 
 
+def firm_ones(table, row):
+    """The firm roundings of a Numbers object of shares at tolls 1, ascending."""
+    return firm_roundings(table, ones_of(table), row)
+
+
 def steps_among(lones, roundings):
     """The steps (z, z') among ascending roundings, by ascending leading lone splits; ascending."""
     known = {one: True for one in roundings}
@@ -63,7 +68,7 @@ def steps_of(table, shares):
     """All steps of the shares, the lesser rounding first, ascending."""
     row = shares_of(shares, table.columns)
     lones = firm_lones(table)
-    return steps_among(lones, firm_roundings(table, ones_of(table), row))
+    return steps_among(lones, firm_ones(table, row))
 
 
 def walk(table, shares, one, other):

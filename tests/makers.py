@@ -55,6 +55,12 @@ def some_numbers(many, seed, low, high):
     return [low + next(source) % (high - low + 1) for _ in range(many)]
 
 
+def long_numbers(many, seed, greatest=10 ** 30):
+    """A list of many integers of either sign and a size of at most the greatest, most of them with as many digits."""
+    source = stream(seed)
+    return [sum(next(source) << 19 * k for k in range(8)) % (2 * greatest + 1) - greatest for _ in range(many)]
+
+
 def plain_parts(count):
     """All parts, the empty one first, smaller ones before greater ones."""
     return [part for size in range(count + 1) for part in itertools.combinations(range(count), size)]

@@ -4,7 +4,7 @@ import itertools
 import unittest
 
 from firmers import plain_determinant
-from makers import WRONG_INTEGERS, WRONG_KINDS, all_tables, error_of, some_numbers, some_tables
+from makers import WRONG_INTEGERS, WRONG_KINDS, all_tables, error_of, long_numbers, some_numbers, some_tables
 from splitnumbers.determinants import determinant
 from splitnumbers.numbers import Numbers
 from splitnumbers.tables import Table
@@ -63,7 +63,7 @@ class DeterminantTest(unittest.TestCase):
             self.assertEqual(determinant(~table), determinant(table))
 
     def test_long_numbers_and_many_rows(self):
-        numbers = some_numbers(36, 5, -10 ** 30, 10 ** 30)
+        numbers = long_numbers(36, 5)
         rows = [tuple(numbers[k:k + 6]) for k in range(0, 36, 6)]
         self.assertEqual(determinant(rows), plain_determinant(rows))
         # Each row is the first one's stretch of 1, shifted: the determinant is that of a table of triangles.

@@ -93,6 +93,47 @@ EXAMPLES = """
 >>> half = ((1, 2), (1, 2))
 >>> [steps_of(table, half), walk(table, half, (0, 0), [1, 1])]
 [[((0, 0), (0, 1)), ((0, 0), (1, 0)), ((0, 1), (1, 1)), ((1, 0), (1, 1))], [(0, 0), (0, 1), (1, 1)]]
+
+>>> from splitnumbers.tables import Table
+>>> from splitnumbers.pairs import pairs_of
+>>> from splitnumbers.growing import grown_lones, rows_that_go_in
+>>> table = Table([(1, 1, 0)])
+>>> [pairs_of(table), grown_lones(table, (1, 0, 1)), rows_that_go_in(Table([(1, 1)]))[:3]]
+[[((0, 1, 0), (0, 0, 1)), ((1, -1, 0), (0, 0, 1)), ((1, 0, 0), (0, 0, 1))], [(0, 0, 1), (0, 1, 0), (1, -1, -1), (1, -1, 0), (1, 0, -1), (1, 0, 0)], [(-1, -1), (-1, 0), (0, -1)]]
+
+>>> from splitnumbers.tables import Table
+>>> from splitnumbers.lonetolls import lone_toll, lone_of_toll, square_of_toll
+>>> from splitnumbers.failing import failing_lones
+>>> table = Table([(1, 1, 1)])
+>>> row = (2, -1, 0)
+>>> [lone_toll(table, row), lone_of_toll(table, row), square_of_toll(table, row), failing_lones(table, row, 2)]
+[3, (1, -1, 0), ((0, 1), (0, 1), -3), [(0, 1)]]
+
+>>> from splitnumbers.tables import Table
+>>> from splitnumbers.abouts import about, half_rounding, split_sums
+>>> table = Table([(1, 1, 1)])
+>>> row = (2, -1, 0)
+>>> shares = [(1, 2), (1, 2), 0]
+>>> [about(table, row, shares), half_rounding(table, row, shares), split_sums(table, row, [0, 1])]
+[((0, 1, 0), (1, 0, 0)), (0, 1, 0), (-3, 3)]
+
+>>> from splitnumbers.tables import Table
+>>> from splitnumbers.pricesteps import price_step, step_price, cheap_rounding
+>>> table = Table([(1, 1, 1)])
+>>> row = (2, -1, 0)
+>>> prices = (1, 5, 0)
+>>> shares = [(1, 2), (1, 2), 0]
+>>> [price_step(table, row, prices, shares), step_price(table, row, prices, shares), cheap_rounding(table, row, prices, shares)]
+[((0, 1, 0), (1, 0, 0), (1, 2)), (3, 1), (1, 0, 0)]
+
+>>> from splitnumbers.tables import Table
+>>> from splitnumbers.pairtolls import second_toll, above_lones
+>>> from splitnumbers.stairs import stairs_of, least_even_toll
+>>> table = Table.zeros(0, 2)
+>>> one = (3, 3)
+>>> other = (3, -3)
+>>> [second_toll(table, one, 3, other), second_toll(table, one, 6, other), above_lones(table, one, 3), stairs_of(table, one, other), least_even_toll(table, one, other)]
+[6, 3, [(0, 1), (1, -1), (1, 0)], [(3, 6), (6, 3)], 6]
 """
 
 
@@ -108,7 +149,7 @@ class ExamplesTest(unittest.TestCase):
         told = []
         results = doctest.DocTestRunner(verbose=False).run(test, out=told.append)
         self.assertEqual(results.failed, 0, "".join(told))
-        self.assertEqual(results.attempted, 57)
+        self.assertEqual(results.attempted, 88)
 
     def test_readme(self):
         names = {}
@@ -121,7 +162,7 @@ class ExamplesTest(unittest.TestCase):
             expected = answer.strip().split(": ")[0]
             self.assertEqual(repr(eval(code.strip(), names)), expected, line)
             shown += 1
-        self.assertEqual(shown, 10)
+        self.assertEqual(shown, 13)
 
 
 if __name__ == "__main__":

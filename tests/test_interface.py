@@ -42,6 +42,19 @@ LISTED = {
     "lonesums": "ways_free(table,part) lone_way(table,part) firm_lones(table) lone_pieces(table,signs)",
     "steps": "is_step(table,one,other) difference_pieces(table,shares,one,other) steps_of(table,shares) "
              "walk(table,shares,one,other)",
+    "pairs": "pairs_of(table) is_pair(table,one,other)",
+    "growing": "goes_in(table,row) grown_lones(table,row) column_goes_in(table,column) rows_that_go_in(table)",
+    "lonetolls": "lone_toll(table,row) lone_of_toll(table,row) square_of_toll(table,row) "
+                 "toll_gain(table,firm_row,row)",
+    "abouts": "about(table,row,shares) half_rounding(table,row,shares) split_sums(table,row,part) "
+              "greatest_jump(table,row,part)",
+    "pricesteps": "price_step(table,row,prices,shares) step_price(table,row,prices,shares) "
+                  "cheap_rounding(table,row,prices,shares)",
+    "rowmixes": "row_mix(table,row,shares) step_mix(table,row,shares) least_spread(table,row,shares)",
+    "failing": "failing_lones(table,row,toll) fails_at(table,row,toll)",
+    "pairtolls": "pair_serves(table,one,other,first,second) second_toll(table,one,first,other) "
+                 "above_lones(table,one,first) failing_pair(table,one,other,first,second)",
+    "stairs": "stairs_of(table,one,other) least_even_toll(table,one,other)",
 }
 METHODS = {
     "numbers.Numbers": "of_ratios(ratios) common_bottom(ratios) dot(self,other) scaled(self,value) greatest_size(self) "

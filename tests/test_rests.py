@@ -5,7 +5,7 @@ import unittest
 from fractions import Fraction
 
 from firmers import lowered, plain_determinant, square_tables, with_loose_rows
-from makers import WRONG_INTEGERS, WRONG_KINDS, error_of, serving_tolls, some_numbers
+from makers import WRONG_INTEGERS, WRONG_KINDS, error_of, long_numbers, serving_tolls, some_numbers
 from splitnumbers.bounds import single_bound, toll_product
 from splitnumbers.numbers import Numbers
 from splitnumbers.rests import class_count, close_rest, rest_of, solved, split_target
@@ -75,9 +75,9 @@ class SolvedTest(unittest.TestCase):
                 self.assertEqual(same, solved(table, less).is_whole)
 
     def test_long_numbers(self):
-        numbers = some_numbers(36, 7, -10 ** 30, 10 ** 30)
+        numbers = long_numbers(36, 7)
         table = Table([numbers[k:k + 6] for k in range(0, 36, 6)])
-        target = some_numbers(6, 3, -10 ** 30, 10 ** 30)
+        target = long_numbers(6, 3)
         self.assertEqual(table.sums_of(solved(table, target)), Numbers(target))
 
 

@@ -3,7 +3,7 @@
 import unittest
 from fractions import Fraction
 
-from makers import WRONG_KINDS, error_of, serving_tolls, some_numbers, some_tables
+from makers import WRONG_KINDS, error_of, long_numbers, serving_tolls, some_tables
 from rounders import fractions_of, plain_firm, plain_miss, plain_quotient, plain_roundings, some_shares, told
 from splitnumbers.numbers import Numbers
 from splitnumbers.ranks import is_independent
@@ -62,10 +62,10 @@ class SpreadTest(unittest.TestCase):
 
     def test_long_numbers(self):
         for k in range(4):
-            numbers = some_numbers(21, k, -10 ** 30, 10 ** 30)
+            numbers = long_numbers(21, k)
             table = Table([numbers[:7], numbers[7:14], numbers[14:]])
-            tops = some_numbers(7, k + 9, 1, 10 ** 12 - 1)
-            self.check(table, [(top, 10 ** 12 - j) for j, top in enumerate(tops)])
+            tops = [abs(top) for top in long_numbers(7, k + 9, 10 ** 11)]
+            self.check(table, [(top + j, 10 ** 12 - j) for j, top in enumerate(tops)])
 
     def test_seven_and_eight_broken_shares(self):
         wide = Table([(1,) * 12, (2,) * 12])
