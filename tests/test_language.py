@@ -23,6 +23,9 @@ DOUBLE = set(
 )
 # A doctest leaves the name _ among them.
 TAKEN = set(dir(builtins)) - {"_"}
+AT_ONCE = ("list", "tuple", "dict", "sorted", "sum", "min", "max", "any", "all", "enumerate", "zip")
+# What may stand among the arguments of a generator; of calls the test of builtins knows.
+PLAIN = (ast.Name, ast.Attribute, ast.Constant, ast.Call, ast.Load)
 BARRED = (ast.GeneratorExp, ast.SetComp, ast.Set, ast.Div, ast.Global, ast.AsyncFunctionDef, ast.Await, ast.JoinedStr)
 
 
@@ -142,6 +145,25 @@ class LanguageTest(unittest.TestCase):
                     self.assertIn(node.id, BUILTINS, (path, node.lineno))
                 if isinstance(node, ast.Call) and isinstance(node.func, ast.Attribute):
                     self.assertIn(node.func.attr, METHODS | own, (path, node.lineno))
+
+    def test_generators_are_iterated_at_once(self):
+        makers = {function.name for _, tree in trees() for function in functions(tree)
+                  if any(isinstance(node, (ast.Yield, ast.YieldFrom)) for node in ast.walk(function))}
+        self.assertIn("square_parts", makers)
+        for path, tree in trees():
+            used = []
+            for node in ast.walk(tree):
+                if isinstance(node, (ast.For, ast.comprehension)):
+                    used.append(node.iter)
+                elif isinstance(node, ast.YieldFrom):
+                    used.append(node.value)
+                elif isinstance(node, ast.Call) and isinstance(node.func, ast.Name) and node.func.id in AT_ONCE:
+                    used += node.args[:1]
+            for node in ast.walk(tree):
+                if isinstance(node, ast.Call) and isinstance(node.func, ast.Name) and node.func.id in makers:
+                    self.assertIn(node, used, (path, node.lineno))
+                    for part in [part for value in node.args for part in ast.walk(value)]:
+                        self.assertIsInstance(part, PLAIN, (path, node.lineno))
 
     def test_strings(self):
         for path, tree in trees():

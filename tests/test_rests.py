@@ -221,6 +221,8 @@ class ErrorsTest(unittest.TestCase):
         self.assertEqual(error_of(close_rest, NINE, (2, 2, 1), (0, 0, 0)), ("NotServing", (2,)))
         self.assertEqual(error_of(close_rest, NINE.with_row((0, 0, 0)), (2, 2, 2, 2), (0,) * 4), ("NotFitting", "square"))
         self.assertEqual(error_of(close_rest, NINE, (2, 2, 2), (0, 0, 0)), ("NotMet", "loose"))
+        threes = Table([(3, 0, 0), (0, 3, 0), (0, 0, 3)])
+        self.assertEqual(error_of(close_rest, threes, (3, 2, 3), (0, 0, 0)), ("NotServing", (1,)))
         both = Table([(1, 1, 0), (1, -1, 0), (0, 0, 1)])
         self.assertEqual(error_of(close_rest, both, (1, 1, 5), (0, 0, 0)), ("NotServing", (0, 1)))
         self.assertIsNone(error_of(close_rest, both, (2, 2, 1), (0, 0, 0)))
