@@ -8,26 +8,12 @@ from splitnumbers.lonesums import lones_among
 from splitnumbers.lonetolls import greatest_worth
 from splitnumbers.numbers import integers_of
 from splitnumbers.pairs import pairs_among
-from splitnumbers.signs import contrary, joined_signs
-
-
-def ways_of(pair):
-    """The sum and the difference of a pair: both are leading."""
-    one, other = pair
-    return [joined_signs(one, other), joined_signs(one, contrary(other))]
+from splitnumbers.tworows import first_without_way, two_rows, ways_of
 
 
 def ways_within(pair, integers, toll):
     """The ways of a pair with a worth of at most the toll at the row."""
     return [way for way in ways_of(pair) if worth_of(integers, way) <= toll]
-
-
-def first_without_way(pairs, one, other, first, second):
-    """The first pair without a way within both tolls, None if there is none."""
-    for pair in pairs:
-        if not [way for way in ways_within(pair, one, first) if worth_of(other, way) <= second]:
-            return pair
-    return None
 
 
 def above_among(lones, pairs, integers, first):
@@ -44,15 +30,11 @@ def refuse_low(toll, lones, integers):
 
 def pair_serves(table, one, other, first, second):
     """Whether the tolls 1, .., 1 and these two serve the table with the two rows below it."""
-    row = integers_of(one, table.columns)
-    more = integers_of(other, table.columns)
-    low = number_from(first, 1, "first")
-    high = number_from(second, 1, "second")
+    both = two_rows(table, one, other, first, second)
     halves = firm_halves(table)
-    lones = lones_among(halves)
-    if greatest_worth(lones, row) > low or greatest_worth(lones, more) > high:
+    if not all([both.allow(signs) for signs in lones_among(halves)]):
         return False
-    return first_without_way(pairs_among(halves), row, more, low, high) is None
+    return first_without_way(pairs_among(halves), both) is None
 
 
 def second_toll(table, one, first, other):
@@ -78,8 +60,5 @@ def above_lones(table, one, first):
 
 def failing_pair(table, one, other, first, second):
     """The first pair without a way within the two tolls, None if there is none."""
-    row = integers_of(one, table.columns)
-    more = integers_of(other, table.columns)
-    low = number_from(first, 1, "first")
-    high = number_from(second, 1, "second")
-    return first_without_way(pairs_among(firm_halves(table)), row, more, low, high)
+    both = two_rows(table, one, other, first, second)
+    return first_without_way(pairs_among(firm_halves(table)), both)

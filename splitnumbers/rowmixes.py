@@ -8,19 +8,8 @@ from splitnumbers.mixes import RoundingMix
 from splitnumbers.numbers import integers_of, shares_of
 from splitnumbers.pricesteps import below_toll, crossing
 from splitnumbers.ratios import lowest, ratio_less
-from splitnumbers.solving import solve
 from splitnumbers.steps import firm_ones
-
-
-def quarter_weights(roundings, gaps, row, toll):
-    """Weights of the roundings with the row of shares as means and a mean square of at most a quarter of toll * toll.
-
-    Misses and toll are those at the row of integers, times the bottom of the shares. The last column of the equations
-    stands for what is left of the squared toll.
-    """
-    columns = [(1,) + rounding + (4 * gaps[rounding] * gaps[rounding],) for rounding in roundings]
-    columns.append((0,) * (1 + len(row)) + (1,))
-    return solve(columns, [1] + list(row) + [toll * toll], (0,) * len(columns))[2]
+from splitnumbers.weighing import mix_of_means
 
 
 def row_mix(table, row, shares):
@@ -30,8 +19,9 @@ def row_mix(table, row, shares):
     toll = greatest_worth(firm_lones(table), integers) * kept.bottom
     gaps = gaps_of(integers, kept, firm_ones(table, kept))
     near = below_toll(gaps, toll)
-    weights = quarter_weights(near, gaps, kept, toll)
-    return RoundingMix([(rounding, weight) for rounding, weight in zip(near, weights) if weight[0] > 0])
+    # Misses and toll stand over the bottom of the shares; a quarter of the squared toll is allowed.
+    squares = [(4 * gaps[rounding] * gaps[rounding],) for rounding in near]
+    return mix_of_means(near, squares, kept, [toll * toll])
 
 
 def step_mix(table, row, shares):

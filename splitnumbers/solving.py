@@ -139,3 +139,16 @@ def solve(columns, room, gains):
     bottom = tableau.scale * row.bottom
     weights = tuple([lowest(top, bottom) for top in tableau.filling()])
     return ("best", lowest(surplus[-1], bottom), weights, tableau.prices(surplus, 0))
+
+
+def spare_column(length, place):
+    """A column that fills nothing but one place."""
+    return (0,) * place + (1,) + (0,) * (length - place - 1)
+
+
+def solve_within(columns, bounded, room, gains):
+    """As solve, but the last places, as many as bounded tells, may be filled less than the room says."""
+    length = len(columns[0])
+    spare = [spare_column(length, place) for place in range(length - bounded, length)]
+    word, total, weights, prices = solve(columns + spare, room, gains + [0] * bounded)
+    return (word, total, None if weights is None else weights[:len(columns)], prices)

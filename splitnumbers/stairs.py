@@ -6,7 +6,8 @@ from splitnumbers.lonesums import lones_among
 from splitnumbers.lonetolls import greatest_worth
 from splitnumbers.numbers import integers_of
 from splitnumbers.pairs import pairs_among
-from splitnumbers.pairtolls import above_among, ways_of
+from splitnumbers.pairtolls import above_among
+from splitnumbers.tworows import ways_of
 
 
 def first_tolls(lones, pairs, integers):

@@ -6,6 +6,7 @@ import unittest
 from callers import check_calls
 from firmers import firm_tables, negative, ones, plain_determinant, plain_lones
 from makers import error_of, long_numbers, plain_failing, plain_splits, some_numbers
+from rowmakers import dot, two_rows_each, ways_of, worth
 from splitnumbers.growing import goes_in
 from splitnumbers.lones import lone_splits, lone_worth, toll_of_row
 from splitnumbers.lonesums import firm_lones
@@ -17,25 +18,6 @@ from splitnumbers.tables import Table
 
 FIRM = list(firm_tables(30, 281, (0, 3), (1, 4))) + list(firm_tables(6, 282, (0, 2), (5, 5)))
 FREE = Table.zeros(0, 2)
-
-
-def dot(row, x):
-    return sum(a * b for a, b in zip(row, x))
-
-
-def worth(row, x):
-    return abs(dot(row, x))
-
-
-def ways_of(pair):
-    u, v = pair
-    return [tuple(a + b for a, b in zip(u, v)), tuple(a - b for a, b in zip(u, v))]
-
-
-def cases(tables, seed, greatest=3):
-    for k, table in enumerate(tables):
-        one = tuple(some_numbers(table.columns, seed + 2 * k, -greatest, greatest))
-        yield table, one, tuple(some_numbers(table.columns, seed + 2 * k + 1, -greatest, greatest))
 
 
 def couples_up_to(table, one, other, more=2):
@@ -62,7 +44,7 @@ class PairServesTest(unittest.TestCase):
 
     def test_against_all_parts(self):
         seen = {True: 0, False: 0}
-        for table, one, other in cases(FIRM, 283):
+        for table, one, other in two_rows_each(FIRM, 283):
             below = table.with_row(one).with_row(other)
             parts = [{j for j, a in enumerate(x) if a} for x in plain_lones(table)]
             parts += [{j for j, (a, b) in enumerate(zip(u, v)) if a or b} for u, v in pairs_of(table)]
@@ -120,7 +102,7 @@ class SecondTollTest(unittest.TestCase):
         self.assertEqual(error_of(second_toll, Table.zeros(0, 8), (5,) * 8, 1, (0,) * 8), ("TooMany", 7))
 
     def test_against_the_table_with_the_first_row(self):
-        for table, one, other in cases(FIRM, 284):
+        for table, one, other in two_rows_each(FIRM, 284):
             low = max(1, lone_toll(table, one))
             below = table.with_row(one)
             for first in range(low, 2 * low + 2):
@@ -138,7 +120,7 @@ class SecondTollTest(unittest.TestCase):
                 self.assertEqual(second, lone_worth(below, q, other))
 
     def test_enough_in_either_order(self):
-        for table, one, other in cases(FIRM, 285):
+        for table, one, other in two_rows_each(FIRM, 285):
             for first, second in couples_up_to(table, one, other):
                 enough = pair_serves(table, one, other, first, second)
                 self.assertEqual(enough, pair_serves(table, other, one, second, first))
@@ -147,7 +129,7 @@ class SecondTollTest(unittest.TestCase):
                 self.assertEqual((by_one, by_other), (enough, enough))
 
     def test_how_it_changes(self):
-        for table, one, other in cases(FIRM, 286):
+        for table, one, other in two_rows_each(FIRM, 286):
             low = max(1, lone_toll(table, one))
             own = lone_toll(table, other)
             third = some_numbers(table.columns, 5, -3, 3)
@@ -167,7 +149,7 @@ class SecondTollTest(unittest.TestCase):
 
     def test_first_rows_that_go_in(self):
         looked_at = 0
-        for table, one, other in cases(FIRM, 287, 1):
+        for table, one, other in two_rows_each(FIRM, 287, 1):
             if goes_in(table, one):
                 looked_at += 1
                 self.assertEqual(second_toll(table, one, 1, other), lone_toll(table.with_row(one), other))
@@ -177,7 +159,7 @@ class SecondTollTest(unittest.TestCase):
 class DeterminantsTest(unittest.TestCase):
     def test_square_parts_with_both_rows(self):
         looked_at = 0
-        for table, one, other in cases(FIRM, 288):
+        for table, one, other in two_rows_each(FIRM, 288):
             lones = plain_lones(table)
             products = {dot(one, u) * dot(other, v) - dot(one, v) * dot(other, u) for u in lones for v in lones}
             enough = [couple for couple in couples_up_to(table, one, other) if pair_serves(table, one, other, *couple)]
@@ -193,7 +175,7 @@ class DeterminantsTest(unittest.TestCase):
         self.assertTrue(looked_at > 100, looked_at)
 
     def test_parts_of_lone_splits_have_no_other_splits(self):
-        for table, one, _ in cases(FIRM[:10], 289):
+        for table, one, _ in two_rows_each(FIRM[:10], 289):
             first = max(1, lone_toll(table, one))
             for x in above_lones(table, one, first):
                 part = [j for j, a in enumerate(x) if a]

@@ -5,7 +5,8 @@ import unittest
 
 from callers import check_calls
 from firmers import firm_tables, ones
-from makers import long_numbers, plain_failing, some_numbers
+from makers import long_numbers, plain_failing
+from rowmakers import two_rows_each
 from splitnumbers.lonetolls import lone_toll
 from splitnumbers.numbers import Numbers
 from splitnumbers.pairtolls import pair_serves, second_toll
@@ -14,12 +15,6 @@ from splitnumbers.tables import Table
 
 FIRM = list(firm_tables(24, 291, (0, 3), (1, 4)))
 FREE = Table.zeros(0, 2)
-
-
-def cases(tables, seed, greatest=3):
-    for k, table in enumerate(tables):
-        one = tuple(some_numbers(table.columns, seed + 2 * k, -greatest, greatest))
-        yield table, one, tuple(some_numbers(table.columns, seed + 2 * k + 1, -greatest, greatest))
 
 
 class StairsTest(unittest.TestCase):
@@ -38,7 +33,7 @@ class StairsTest(unittest.TestCase):
 
     def test_against_all_couples(self):
         lengths = set()
-        for table, one, other in cases(FIRM, 292):
+        for table, one, other in two_rows_each(FIRM, 292):
             below = table.with_row(one).with_row(other)
             high = 2 * max(1, lone_toll(table, one)) + 1
             wide = 2 * max(1, lone_toll(table, other)) + 1
@@ -58,7 +53,7 @@ class StairsTest(unittest.TestCase):
 
     def test_order_and_second_tolls(self):
         lengths = set()
-        for table, one, other in cases(list(firm_tables(40, 293, (0, 2), (3, 5))), 294, 9):
+        for table, one, other in two_rows_each(list(firm_tables(40, 293, (0, 2), (3, 5))), 294, 9):
             stairs = stairs_of(table, one, other)
             lengths.add(len(stairs))
             self.assertTrue(all(a[0] < b[0] and a[1] > b[1] for a, b in zip(stairs, stairs[1:])))
@@ -73,7 +68,7 @@ class StairsTest(unittest.TestCase):
         self.assertTrue(max(lengths) >= 3, lengths)
 
     def test_multiples(self):
-        for table, one, other in cases(FIRM, 295):
+        for table, one, other in two_rows_each(FIRM, 295):
             if any(one) and any(other):
                 stairs = stairs_of(table, one, other)
                 for s, t in ((1, 4), (3, 2), (10 ** 29, 7)):
