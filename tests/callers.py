@@ -2,6 +2,7 @@
 
 from makers import WRONG_INTEGERS, WRONG_KINDS, error_of
 from splitnumbers.numbers import Numbers
+from splitnumbers.stretches import Stretches
 from splitnumbers.tables import Table
 
 UNFIRM = Table([(1, 1), (1, -1)])
@@ -48,8 +49,23 @@ def wrong_numbers(word, low):
         yield wrong, ("BadNumber", word)
 
 
+def wrong_stretches(count):
+    """Stretches of another length: nothing is promised for what is none."""
+    for other in (0, count - 1, count + 1):
+        yield Stretches([(0, 1)] * other), ("OtherSize", count)
+
+
+def wrong_budgets():
+    for wrong in (None, True, "1", 1.0, (1, 0), (1, -2), (1, 2, 3), [1], (1, None)):
+        yield wrong, ("BadRatio", "budget")
+
+
 def wrongs_of(kind, count):
     """Wrong values of a kind, with their errors."""
+    if kind == "stretches":
+        return wrong_stretches(count)
+    if kind == "budget":
+        return wrong_budgets()
     if kind == "row":
         return wrong_rows(count)
     if kind == "shares":
@@ -63,7 +79,9 @@ def wrongs_of(kind, count):
 
 def good_one(kind, count):
     """A right value of a kind: rows of zeros, whose tolls are 0."""
-    return {"part": (0,), "toll": 0, "first": 1, "second": 1}.get(kind, (0,) * count)
+    if kind == "stretches":
+        return Stretches([(0, 0)] * count)
+    return {"part": (0,), "toll": 0, "first": 1, "second": 1, "budget": 0}.get(kind, (0,) * count)
 
 
 def check_calls(test, call, kinds, limit=7):

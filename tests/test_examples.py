@@ -134,6 +134,104 @@ EXAMPLES = """
 >>> other = (3, -3)
 >>> [second_toll(table, one, 3, other), second_toll(table, one, 6, other), above_lones(table, one, 3), stairs_of(table, one, other), least_even_toll(table, one, other)]
 [6, 3, [(0, 1), (1, -1), (1, 0)], [(3, 6), (6, 3)], 6]
+
+>>> from splitnumbers.tables import Table
+>>> from splitnumbers.triangles import triangle_of, half_both
+>>> table = Table.zeros(0, 2)
+>>> one = (3, 3)
+>>> other = (3, -3)
+>>> shares = [(1, 3), (1, 3)]
+>>> [triangle_of(table, one, other, 3, 6, (1, 1), shares).entries, half_both(table, one, other, 3, 6, shares)]
+[(((0, 0), (1, 3)), ((0, 1), (1, 3)), ((1, 0), (1, 3))), (0, 1)]
+
+>>> from splitnumbers.tables import Table
+>>> from splitnumbers.agreeing import harm, agree, couple_failing
+>>> from splitnumbers.examples3 import mix_table
+>>> table = Table.zeros(0, 2)
+>>> [harm(table, (3, 3), (3, -3)), agree(table, (3, 3), (2, 0)), couple_failing(mix_table(), (5, 5)), couple_failing(mix_table(), (3, 6))]
+[((1, 0), (0, 1)), True, (0, 1), None]
+
+>>> from splitnumbers.tables import Table
+>>> from splitnumbers.joining import joined_lones
+>>> couple = Table([(1, 1)])
+>>> joined_lones(couple, 1, couple, 0, (1,), (1,))
+[(0, 0, 1), (0, 1, -1), (0, 1, 0), (1, -1, 0), (1, -1, 1), (1, 0, 0)]
+
+>>> from splitnumbers.tables import Table
+>>> from splitnumbers.rings import odd_rings, ring_tolls
+>>> ring = Table([(1, 0, 1), (1, 1, 0), (0, 1, 1)])
+>>> (odd_rings(ring), ring_tolls(ring))
+([(0, 1, 2)], [(1, 1, 2), (1, 2, 1), (2, 1, 1)])
+
+>>> from splitnumbers.tables import Table
+>>> from splitnumbers.loosecolumns import column_failing, column_sides
+>>> table = Table([(1,), (1,)])
+>>> at_ones = column_failing(table, (1, -1), (1, 1))
+>>> (at_ones, column_sides(table, (1, -1), (1, 2), (0,), (1, -1)))
+(((0,), (1, -1)), (2, 2))
+
+>>> from splitnumbers.mixes import SignMix
+>>> from splitnumbers.squaring import balanced
+>>> mix = SignMix([((1, 1), (2, 3)), ((1, -1), (1, 3))])
+>>> balanced(mix).entries
+(((-1, -1), (1, 3)), ((-1, 1), (1, 6)), ((1, -1), (1, 6)), ((1, 1), (1, 3)))
+
+>>> from splitnumbers.tables import Table
+>>> from splitnumbers.squaring import mean_squares
+>>> from splitnumbers.games import even_failing, even_serves, part_game
+>>> table = Table([(1, 1), (1, -1)])
+>>> value, mix, weights = part_game(table, (0, 1))
+>>> (value, mean_squares(table, mix), weights, even_serves(table, (1, 3)), even_failing(table, (1, 2)))
+((2, 1), ((2, 1), (2, 1)), ((1, 2), (1, 2)), True, (0, 1))
+
+>>> from splitnumbers.evenmixes import square_bounds
+>>> square_bounds((3, (1, 2)), 2)
+((15, 16), (5, 32))
+
+>>> from splitnumbers.tables import Table
+>>> from splitnumbers.stretches import Stretches
+>>> from splitnumbers.worlds import greatest_toll, world_with
+>>> table = Table.zeros(0, 2)
+>>> known = Stretches([(1, 3), (-2, 0)])
+>>> [greatest_toll(table, known), world_with(table, known, 1), world_with(table, known, 2)]
+[(3, (3, -2)), (1, -1), (1, -2)]
+
+>>> from splitnumbers.tables import Table
+>>> from splitnumbers.stretches import Stretches
+>>> from splitnumbers.worlds import serves_all, safe_split
+>>> table = Table.zeros(0, 2)
+>>> known = Stretches([(1, 1), (-1, 1)])
+>>> [serves_all(table, known, 1), safe_split(table, known, 1, (0, 1)), safe_split(table, known, 2, (0, 1))]
+[True, None, (-1, -1)]
+
+>>> from splitnumbers.tables import Table
+>>> from splitnumbers.budgets import cheapest_within, least_price, price_corners
+>>> table = Table.zeros(0, 2)
+>>> half = ((1, 2), (1, 2))
+>>> corners = price_corners(table, (1, 2), (1, -1), half)
+>>> [corners, least_price(table, (1, 2), (1, -1), half, 1), cheapest_within(table, (1, 2), (1, -1), half, 1)]
+[((0, 0), (2, -1), (3, 0)), (-1, 2), (0, 0)]
+
+>>> from splitnumbers.deeds import deed_from, deed_text
+>>> [deed_text(["row", [1, 0, -1], 2, 1]), deed_text(("column", (), 0)), deed_from("number: 0 1 -5")]
+['row: 1 0 -1 at 2 toll 1', 'column: at 0', ('number', 0, 1, -5)]
+
+>>> from splitnumbers.tables import Table
+>>> from splitnumbers.desks import Desk
+>>> desk = Desk(Table([(1, 1), (1, -1)]), (2, 1), name="two")
+>>> before = [desk.serving(), desk.lones(), desk.room_for((3, 1))]
+>>> desk.set_toll(1, 2)
+>>> [before, desk.room_for((3, 1)), desk.back(), desk.tolls]
+[[True, [(0, 1), (1, 0), (1, 1)], 4], 3, ('toll', 1, 2), (2, 1)]
+
+>>> from splitnumbers.tables import Table
+>>> from splitnumbers.desks import Desk
+>>> from splitnumbers.listings import deeds_listing, listing
+>>> desk = Desk(Table([(1, 1), (1, -1)]), (1, 1))
+>>> first = listing(desk)
+>>> desk.set_toll(0, 2)
+>>> [first, listing(desk), deeds_listing(desk)]
+['desk\\n 1  1 | 1\\n 1 -1 | 1\\nfails at 0 1\\n', 'desk\\n 1  1 | 2\\n 1 -1 | 1\\nserves\\nlone 3\\n', '1. toll: 0 2\\n']
 """
 
 
@@ -149,7 +247,7 @@ class ExamplesTest(unittest.TestCase):
         told = []
         results = doctest.DocTestRunner(verbose=False).run(test, out=told.append)
         self.assertEqual(results.failed, 0, "".join(told))
-        self.assertEqual(results.attempted, 88)
+        self.assertEqual(results.attempted, 158)
 
     def test_readme(self):
         names = {}
@@ -159,10 +257,11 @@ class ExamplesTest(unittest.TestCase):
             if not answer:
                 exec(code, names)
                 continue
-            expected = answer.strip().split(": ")[0]
+            # Behind an answer that is no string a remark may stand.
+            expected = answer.strip() if answer.strip().startswith("'") else answer.strip().split(": ")[0]
             self.assertEqual(repr(eval(code.strip(), names)), expected, line)
             shown += 1
-        self.assertEqual(shown, 13)
+        self.assertEqual(shown, 24)
 
 
 if __name__ == "__main__":

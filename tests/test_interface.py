@@ -55,6 +55,32 @@ LISTED = {
     "pairtolls": "pair_serves(table,one,other,first,second) second_toll(table,one,first,other) "
                  "above_lones(table,one,first) failing_pair(table,one,other,first,second)",
     "stairs": "stairs_of(table,one,other) least_even_toll(table,one,other)",
+    "triangles": "half_both(table,one,other,first,second,shares) is_good(table,one,other,first,second,signs) "
+                 "triangle_of(table,one,other,first,second,prices,shares) "
+                 "both_mix(table,one,other,first,second,shares) "
+                 "cheap_both(table,one,other,first,second,prices,shares)",
+    "agreeing": "harm(table,one,other) agree(table,one,other) couple_failing(table,tolls)",
+    "examples3": "three_columns() three_halves() nine_table() mix_table()",
+    "joining": "at_row(one,i,other,k) at_column(one,j,other,l) blocks_table(*tables) "
+               "tolls_at_row(tolls,height,i,other_height,k) joined_lones(one,j,other,l,tolls,other_tolls)",
+    "blocks": "blocks_of(table) failing_block(table,tolls) block_loose(table,tolls) is_one_block(table)",
+    "rings": "two_a_column(table) two_a_row(table) odd_rings(table) ring_lots(table) ring_tolls(table)",
+    "putting": "put_in(one,j,other,k) is_telling(one,j,tolls,other,k)",
+    "loosecolumns": "column_sides(table,column,tolls,part,signs) column_failing(table,column,tolls)",
+    "squaring": "sum_squares(table,signs) mean_squares(table,mix) balanced(mix)",
+    "games": "part_game(table,part) even_of(table) even_part(table) square_mix(table,part,squares) "
+             "square_weights(table,part,squares) even_serves(table,squares) even_failing(table,squares)",
+    "evenmixes": "even_mix(table,squares,shares) square_bounds(squares,depth)",
+    "stretches": "Stretches(pairs) worlds_of(stretches)",
+    "worlds": "greatest_toll(table,stretches) serves_all(table,stretches,toll) least_toll_ratio(table,stretches) "
+              "world_with(table,stretches,toll) safe_split(table,stretches,toll,part) "
+              "greatest_second(table,one,first,stretches)",
+    "budgets": "least_price(table,row,prices,shares,budget) price_corners(table,row,prices,shares) "
+               "cheapest_within(table,row,prices,shares,budget)",
+    "deeds": "deed_of(value) deed_text(deed) deed_from(text)",
+    "desks": "Desk(table,tolls,*,name='')",
+    "trials": "tried(desk,deeds,question) Trial(desk)",
+    "listings": "listing(desk) deeds_listing(desk)",
 }
 METHODS = {
     "numbers.Numbers": "of_ratios(ratios) common_bottom(ratios) dot(self,other) scaled(self,value) greatest_size(self) "
@@ -66,9 +92,17 @@ METHODS = {
     "mixes.Mix": "means(self) mean_at(self,row) mean_square(self,row,middle=(0,1)) even(tuples)",
     "mixes.RoundingMix": "greatest_miss(self,table,shares)",
     "mixes.SignMix": "signed_part(self)",
+    "stretches.Stretches": "agrees(self,row) world_count(self) end_world(self,signs) reach(self,signs)",
+    "desks.Desk": "do(self,deed) put_row(self,row,place=None,toll=1) put_column(self,column,place=None) "
+                  "drop_row(self,i) drop_column(self,j) turn_row(self,i) turn_column(self,j) set_number(self,i,j,value) "
+                  "set_toll(self,i,value) set_tolls(self,tolls) back(self) back_to(self,count) copy(self) serving(self) "
+                  "failing(self) lones(self) firm(self) loose(self) room_for(self,row) near(self,shares) "
+                  "bound(self,rows) blocks(self)",
 }
+PROPERTIES = {"numbers.Numbers": ["is_whole"], "tables.Table": ["height"], "mixes.Mix": ["size"],
+              "desks.Desk": ["table_now", "tolls", "deeds"]}
 GENERATORS = {"sets": ["parts_of"], "signs": ["signs_of", "leading_signs"], "roundings": ["roundings_of"],
-              "squareparts": ["square_parts", "squares_among"]}
+              "squareparts": ["square_parts", "squares_among"], "stretches": ["worlds_of"]}
 
 
 def told(name, thing):
@@ -93,6 +127,19 @@ class InterfaceTest(unittest.TestCase):
                 method = words.split("(")[0]
                 self.assertIn(method, vars(kind))
                 self.assertEqual(told(method, getattr(kind, method)), words)
+
+    def test_properties(self):
+        for path, names in PROPERTIES.items():
+            stem, name = path.split(".")
+            kind = getattr(importlib.import_module("splitnumbers." + stem), name)
+            for word in names:
+                self.assertIsInstance(vars(kind)[word], property)
+                self.assertIsNone(vars(kind)[word].fset)
+
+    def test_class_values(self):
+        for stem, name, value in (("mixes", "Mix", "mix"), ("mixes", "RoundingMix", "roundings"), ("mixes", "SignMix", "signs"),
+                                  ("trials", "Trial", "trial")):
+            self.assertEqual(vars(getattr(importlib.import_module("splitnumbers." + stem), name))["KIND"], value)
 
     def test_generators(self):
         for stem in LISTED:

@@ -19,7 +19,7 @@ METHODS = set(
 )
 DOUBLE = set(
     "__init__ __eq__ __len__ __iter__ __call__ __add__ __sub__ __mul__ __rmul__ __neg__ __getitem__ __contains__ "
-    "__or__ __and__ __invert__".split()
+    "__or__ __and__ __invert__ __enter__ __exit__".split()
 )
 # A doctest leaves the name _ among them.
 TAKEN = set(dir(builtins)) - {"_"}
