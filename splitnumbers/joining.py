@@ -27,8 +27,8 @@ def column_spot(table, place, j):
 
 def table_of(rows, columns):
     """The table of the rows, or BadNumber for more than 12 rows, then for more than 12 columns."""
+    # More columns are refused by the table itself, but more rows with another error.
     refuse_more(len(rows), "rows")
-    refuse_more(columns, "columns")
     return Table(rows, columns=columns)
 
 

@@ -49,8 +49,7 @@ def column_failing(table, column, tolls):
     integers = integers_of(column, table.height)
     due = tolls_of(tolls, table.height)
     refuse_zero(due)
-    refuse_many(table.columns, MOST_GONE_THROUGH)
-    refuse_many(table.height, MOST_GONE_THROUGH)
+    refuse_many(max(table.columns, table.height), MOST_GONE_THROUGH)
     firm_halves(table)
     if table.height == 0:
         return None

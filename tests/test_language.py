@@ -2,7 +2,10 @@
 
 import ast
 import builtins
+import io
 import pathlib
+import re
+import tokenize
 import unittest
 
 PACKAGE = pathlib.Path(__file__).resolve().parent.parent / "splitnumbers"
@@ -20,6 +23,11 @@ METHODS = set(
 DOUBLE = set(
     "__init__ __eq__ __len__ __iter__ __call__ __add__ __sub__ __mul__ __rmul__ __neg__ __getitem__ __contains__ "
     "__or__ __and__ __invert__ __enter__ __exit__".split()
+)
+# What stands in no file outside of comments and docstrings.
+WORDS = set(
+    "type typing enum Enum Flag Generic Protocol ABC namedtuple NamedTuple register mro elements open input law eval exec "
+    "compile globals locals vars dir id exit quit help copyright license super os sys gc __class__ __name__ async".split()
 )
 # A doctest leaves the name _ among them.
 TAKEN = set(dir(builtins)) - {"_"}
@@ -170,6 +178,48 @@ class LanguageTest(unittest.TestCase):
             for node in ast.walk(tree):
                 if isinstance(node, ast.Constant) and isinstance(node.value, str) and "%" in node.value:
                     self.fail((path, node.lineno))
+
+    def test_barred_words(self):
+        for path in files():
+            for token in tokenize.generate_tokens(io.StringIO(path.read_text()).readline):
+                if token.type == tokenize.NAME or (token.type == tokenize.STRING and not token.string.startswith('"""')):
+                    for word in re.findall(r"\w+", token.string):
+                        self.assertNotIn(word, WORDS, (path, token.start))
+
+    def test_names_of_methods_and_attributes(self):
+        methods, attributes = set(), set()
+        for path, tree in trees():
+            for kind in [node for node in ast.walk(tree) if isinstance(node, ast.ClassDef)]:
+                methods |= {part.name for part in kind.body if isinstance(part, ast.FunctionDef)}
+                methods |= {target.id for part in kind.body if isinstance(part, ast.Assign) for target in part.targets}
+            attributes |= {node.attr for node in ast.walk(tree)
+                           if isinstance(node, ast.Attribute) and isinstance(node.ctx, ast.Store)}
+        self.assertEqual(methods & attributes, set())
+        for path, tree in trees():
+            for node in ast.walk(tree):
+                if isinstance(node, ast.Attribute):
+                    self.assertIn(node.attr, methods | attributes | METHODS, (path, node.lineno))
+
+    def test_module_level(self):
+        self.assertLessEqual(len(files()), 100)
+        for path, tree in trees():
+            kinds = [type(node) for node in tree.body]
+            self.assertTrue(set(kinds) <= {ast.Expr, ast.ImportFrom, ast.Assign, ast.FunctionDef, ast.ClassDef}, path)
+            self.assertEqual(kinds.count(ast.Expr), 1, path)
+            last = max([k for k, kind in enumerate(kinds) if kind == ast.ImportFrom], default=0)
+            self.assertTrue(set(kinds[1:last + 1]) <= {ast.ImportFrom}, path)
+            for function in functions(tree):
+                for value in function.args.defaults + [value for value in function.args.kw_defaults if value]:
+                    ast.literal_eval(value)
+
+    def test_ends_of_with_blocks(self):
+        for path, tree in trees():
+            for function in functions(tree):
+                if function.name == "__exit__":
+                    self.assertEqual([argument.arg for argument in function.args.args], ["self", "kind", "value", "trace"])
+                    for part in function.body:
+                        self.assertIsInstance(part, ast.Assign, path)
+                        self.assertIsInstance(part.value, ast.Attribute, path)
 
     def test_every_test_folder_stands_beside(self):
         self.assertEqual([path for path in files() if path.name.startswith("test")], [])
