@@ -163,6 +163,10 @@ class DeedsTest(unittest.TestCase):
             self.assertEqual(error_of(desk.set_tolls, (9, wrong)), ("BadTolls", 1))
         self.assertEqual(error_of(desk.set_tolls, (9, 9)), ("OtherSize", 3))
         self.assertEqual((desk.tolls, len(desk.deeds)), ((4, 2, 3), 1))
+        free = Desk(Table.zeros(0, 2), [])
+        free.set_tolls([])
+        self.assertEqual(state(free), (Table.zeros(0, 2), (), ()))
+        self.assertEqual(error_of(free.set_tolls, (1,)), ("OtherSize", 0))
 
 
 class RefusedTest(unittest.TestCase):
